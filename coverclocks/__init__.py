@@ -1,0 +1,1 @@
+"""Coverclocks: clocks that cover every number."""

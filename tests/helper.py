@@ -1,0 +1,103 @@
+"""Looks of the tests' own: they count number by number and use nothing of the package."""
+
+import itertools
+import math
+import random
+
+LONG = 10 ** 99 + 7
+FAR = 10 ** 59 + 3
+
+
+def deep(wrap, bottom, levels=49):
+    thing = bottom
+    for turn in range(levels):
+        thing = wrap(thing)
+    return thing
+
+
+def whatever():
+    """Things of the kinds that may stand where whatever is handed in, made anew each time."""
+    return [
+        None, True, False, 0, 1, -1, 2, 5, 7, 11, 1000, LONG, -LONG, FAR, -FAR,
+        "", " ", "~", "0", "leaf", "split", "clock 2 0", "(2, 0)", "\\",
+        [], [None], [0], [2, 0], [(2, 0)], [[2, 0]], ["leaf", 0], [0, 1, 0], [0, 1],
+        (), (None,), (0,), (True,), ((),), ((2, 0),), ((2, 0), (2, 1)), ((2, 1), (2, 0)),
+        (None, None), (2, None), (None, 0), (2, "0"), ("2", 0), ([2], 0), (2, [0]), ({}, 0), (2, (0,)),
+        (True, 0), (True, False), (1, False), (2, True), (2, False), (0, 0), (1, 0), (1, 1), (2, 0), (2, 2), (2, -1),
+        (-2, 0), (1000, 999), (1000, 1000), (1001, 0), (LONG, 0), (LONG, LONG), (7, LONG), (7, -LONG), (0, LONG),
+        (2, 0, 0), (0, 1, 0), (0, 1, None), (0, 1, True), (0, 1, 3), (False, True, 0), (1, 0, 0), (0, 0, 0),
+        (0, LONG, 0), (-1, 0, 0), (0, 1, 0, 0), (0, 1, "0"), (0, 1, LONG),
+        ("leaf",), ("leaf", 0), ("leaf", 1), ("leaf", True), ("leaf", None), ("leaf", LONG), ("leaf", 0, 0),
+        ("split", 2), ("split", 2, ()), ("split", LONG, ()), ("split", 2, (("leaf", 0), ("leaf", 1))),
+        ("split", 2, None), ("split", 2, [("leaf", 0), ("leaf", 1)]), ("split", 0, ()), ("split", False, ()),
+        {}, {2: 0}, {0: 2, 1: 0}, {"step": 2, "rest": 0}, {"leaf": 0}, {(2, 0): True},
+        deep(lambda thing: [thing], 0), deep(lambda thing: (thing,), 0), deep(lambda thing: {"in": thing}, None),
+        deep(lambda thing: (thing, thing), ()), deep(lambda thing: (2, thing), 0),
+        deep(lambda thing: ("split", 2, (thing, thing)), None, 24),
+        deep(lambda thing: ("split", 2, (thing, ("leaf", 0))), ("leaf", 0), 24),
+    ]
+
+
+def is_whole(thing):
+    return type(thing) is int
+
+
+def is_clock(thing):
+    if type(thing) is not tuple or [type(part) for part in thing] != [int, int]:
+        return False
+    return thing[0] in range(1, 1001) and thing[1] in range(thing[0])
+
+
+def rung(clock, number):
+    return (number - clock[1]) % clock[0] == 0
+
+
+def count(clocks, number):
+    return sum(1 for clock in clocks if rung(clock, number))
+
+
+def round_looked(clocks):
+    """By trying number after number, for small rounds."""
+    number = 1
+    while any(number % clock[0] for clock in clocks):
+        number += 1
+    return number
+
+
+def round_great(clocks):
+    return math.lcm(*[clock[0] for clock in clocks])
+
+
+def all_clocks(most):
+    return [(step, rest) for step in range(1, most + 1) for rest in range(step)]
+
+
+def small_clocks():
+    """All clocks, none to ten, of steps up to 4: rounds of 12 at most."""
+    world = all_clocks(4)
+    for many in range(len(world) + 1):
+        yield from itertools.combinations(world, many)
+
+
+def some_clocks(seed, times, most_step, most_many, most_round=None):
+    """Some clocks of greater steps, always the same ones for one seed."""
+    source = random.Random(seed)
+    told = []
+    while len(told) < times:
+        found = set()
+        for turn in range(source.randint(0, most_many)):
+            step = source.randint(1, most_step)
+            found.add((step, source.randrange(step)))
+        clocks = tuple(sorted(found))
+        if most_round is None or round_great(clocks) <= most_round:
+            told.append(clocks)
+    return told
+
+
+HALVES = ((2, 0), (2, 1))
+# Clocks with a round of just 10,000, and of 10,001.
+JUST = ((16, 3), (625, 600))
+ABOVE = ((73, 0), (137, 1))
+PRIMES = (953, 967, 971, 977, 983, 991, 997)
+# Twelve clocks of great steps; their round has more than thirty figures.
+GREAT = tuple(sorted((step, step // 3) for step in (512, 729, 625, 841, 961) + PRIMES))

@@ -1,0 +1,74 @@
+"""[0.2]: nothing handed in is changed, and the same question has the same answer."""
+
+import copy
+import unittest
+
+from coverclocks import clocks as clocks_file
+from coverclocks import covering, tallies
+from coverclocks.errors import ClockError
+from tests.helper import FAR, GREAT, some_clocks
+
+CLOCKS = some_clocks(21, 12, 12, 5, 2000) + [(), ((1, 0),), ((2, 0), (2, 1)), GREAT]
+OF_CLOCKS = (
+    clocks_file.clocks_good, clocks_file.round_of, clocks_file.met_all, covering.covers, covering.first_missed,
+    covering.missed_of, covering.cover_paper, tallies.tally_of, tallies.shares_of, tallies.clash_of,
+    tallies.exact_good, tallies.evenly_of, tallies.uneven_of,
+)
+OF_NUMBER = (clocks_file.rings_at, tallies.times_at)
+OF_THING = (covering.miss_good, covering.cover_paper_good, tallies.clash_good, tallies.uneven_good)
+THINGS = ([], [0, 1, 0], {"leaf": [0]}, ("split", 2, [("leaf", 0), ["leaf", 1]]), ([0], {1: [2]}), ["split", 2, []])
+
+
+def told(ask, handed):
+    try:
+        return ask(*handed)
+    except ClockError as refusal:
+        return (ask.__name__, refusal.__class__.__name__, vars(refusal))
+
+
+def questions():
+    for clocks in CLOCKS:
+        for ask in OF_CLOCKS:
+            yield ask, (clocks,)
+        for ask in OF_NUMBER:
+            for number in (0, -5, FAR):
+                yield ask, (clocks, number)
+        for ask in OF_THING:
+            for thing in THINGS:
+                yield ask, (clocks, copy.deepcopy(thing))
+        yield covering.first_within, (clocks, (3, 1))
+        yield clocks_file.clocks_of, (list(reversed(clocks)),)
+        yield clocks_file.clocks_of, (list(clocks) + [[2, 0], {}],)
+    for thing in THINGS:
+        yield clocks_file.clock_good, (copy.deepcopy(thing),)
+        yield clocks_file.clocks_good, (copy.deepcopy(thing),)
+
+
+class Kept(unittest.TestCase):
+    def test_nothing_handed_in_is_changed(self):
+        for ask, handed in questions():
+            kept = copy.deepcopy(handed)
+            told(ask, handed)
+            self.assertEqual(handed, kept, ask.__name__)
+
+    def test_the_same_question_has_the_same_answer(self):
+        first = []
+        for ask, handed in questions():
+            answer = told(ask, handed)
+            first.append(copy.deepcopy(answer))
+            if isinstance(answer, list):
+                answer.append("spoilt")
+        asked = list(questions())
+        for place in reversed(range(len(asked))):
+            ask, handed = asked[place]
+            self.assertEqual(told(ask, handed), first[place], ask.__name__)
+
+    def test_lists_are_new_each_time(self):
+        for ask, handed in questions():
+            answer = told(ask, handed)
+            if isinstance(answer, list):
+                self.assertIsNot(answer, told(ask, handed))
+
+
+if __name__ == "__main__":
+    unittest.main()
