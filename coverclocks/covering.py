@@ -1,7 +1,7 @@
 """Which numbers clocks cover and miss, and papers that show it."""
 
 from coverclocks.clocks import inside_of, parts_of, rings_at, round_of
-from coverclocks.helper import counts_within, least_factor, place_good, whole_good
+from coverclocks.helper import counts_within, first_counted, least_factor, place_good, split_form_good, whole_good
 
 
 def covers(clocks):
@@ -22,11 +22,7 @@ def miss_good(clocks, thing):
 
 
 def first_within(clocks, clock):
-    counts = counts_within(clocks, round_of(clocks + (clock,)))
-    for number in range(clock[1], len(counts), clock[0]):
-        if counts[number] == 0:
-            return number
-    return None
+    return first_counted(clock, counts_within(clocks, round_of(clocks + (clock,))), 0)
 
 
 def cover_paper_good(clocks, thing):
@@ -44,10 +40,7 @@ def paper_good(clocks, thing, clock):
 
 
 def papers_good(clocks, k, papers, clock):
-    if not whole_good(k) or k < 2:
-        return False
-    # Asked ahead of the parts, for k may have a hundred figures.
-    if not isinstance(papers, tuple) or len(papers) != k:
+    if not split_form_good(k, papers):
         return False
     for paper, part in zip(papers, parts_of(clock, k)):
         if not paper_good(clocks, paper, part):

@@ -14,6 +14,29 @@ def place_good(things, thing):
     return whole_good(thing) and 0 <= thing < len(things)
 
 
+def rising_places_good(things, thing):
+    if not isinstance(thing, tuple) or not all([place_good(things, place) for place in thing]):
+        return False
+    return all([ahead < place for ahead, place in zip(thing, thing[1:])])
+
+
+def split_form_good(k, papers):
+    # The length is asked here, ahead of any parts, for k may have a hundred figures.
+    return whole_good(k) and k >= 2 and isinstance(papers, tuple) and len(papers) == k
+
+
+def refuse_above(many, most):
+    if many > most:
+        raise TooGreat(many, most)
+
+
+def doubled(times):
+    number = 1
+    for turn in range(times):
+        number += number
+    return number
+
+
 def common_divisor(one, other):
     while other != 0:
         left = one % other
@@ -62,10 +85,17 @@ def lowest_terms(top, bottom):
 
 
 def counts_within(clocks, many):
-    if many > MOST_NUMBERS:
-        raise TooGreat(many, MOST_NUMBERS)
+    refuse_above(many, MOST_NUMBERS)
     counts = [0] * many
     for step, rest in clocks:
         for number in range(rest, many, step):
             counts[number] += 1
     return counts
+
+
+# The least number at which the clock rings and just so many do, as the counts tell.
+def first_counted(clock, counts, many):
+    for number in range(clock[1], len(counts), clock[0]):
+        if counts[number] == many:
+            return number
+    return None

@@ -42,6 +42,19 @@ def is_whole(thing):
     return type(thing) is int
 
 
+def is_place(clocks, thing):
+    return is_whole(thing) and thing in range(len(clocks))
+
+
+def refusal(ask, *handed):
+    """The class and the fields of what a call is refused with; None where it is not."""
+    try:
+        ask(*handed)
+    except ValueError as error:
+        return (error.__class__, vars(error))
+    return None
+
+
 def is_clock(thing):
     if type(thing) is not tuple or [type(part) for part in thing] != [int, int]:
         return False
@@ -66,6 +79,32 @@ def round_looked(clocks):
 
 def round_great(clocks):
     return math.lcm(*[clock[0] for clock in clocks])
+
+
+def counts_look(clocks):
+    return [count(clocks, number) for number in range(round_great(clocks))]
+
+
+def exact_look(clocks):
+    return set(counts_look(clocks)) == {1}
+
+
+def parts_look(clock, k):
+    """The clocks of the step times k that ring nowhere but where this one does."""
+    step = clock[0] * k
+    return [(step, rest) for rest in range(step) if rung(clock, rest)]
+
+
+def split_drawn(source, most_many, most_step, ks=(2, 2, 3, 4, 5)):
+    """Exact clocks, drawn by splits from (1, 0) on."""
+    clocks = [(1, 0)]
+    for turn in range(source.randint(0, 8)):
+        clock = source.choice(clocks)
+        k = source.choice(ks)
+        if len(clocks) - 1 + k <= most_many and clock[0] * k <= most_step:
+            clocks.remove(clock)
+            clocks.extend(parts_look(clock, k))
+    return tuple(sorted(clocks))
 
 
 def all_clocks(most):
@@ -101,3 +140,13 @@ ABOVE = ((73, 0), (137, 1))
 PRIMES = (953, 967, 971, 977, 983, 991, 997)
 # Twelve clocks of great steps; their round has more than thirty figures.
 GREAT = tuple(sorted((step, step // 3) for step in (512, 729, 625, 841, 961) + PRIMES))
+# The known cover whose steps are unlike.
+UNLIKE = ((2, 0), (3, 0), (4, 1), (6, 5), (12, 7))
+# Ten exact clocks, each half of what those ahead leave.
+HALVED = tuple((2 * step, step - 1) for step in (1, 2, 4, 8, 16, 32, 64, 128, 256)) + ((512, 511),)
+TWELFTHS = tuple((12, rest) for rest in range(12))
+# Thirteen exact clocks that no split makes: lines and points of a box of 2 by 3 by 5.
+BOX = (
+    (6, 0), (6, 2), (10, 3), (10, 5), (10, 7), (10, 9), (15, 1), (30, 4), (30, 10), (30, 11), (30, 21), (30, 22),
+    (30, 28),
+)

@@ -9,12 +9,9 @@ from coverclocks.covering import (
 )
 from coverclocks.errors import TooGreat
 from tests.helper import (
-    ABOVE, FAR, GREAT, HALVES, JUST, LONG, all_clocks, count, deep, is_whole, round_great, round_looked, rung,
-    small_clocks, some_clocks, whatever,
+    ABOVE, FAR, GREAT, HALVED, HALVES, JUST, LONG, UNLIKE, all_clocks, count, deep, is_whole, round_great,
+    round_looked, rung, small_clocks, some_clocks, whatever,
 )
-
-# The known cover whose steps are unlike.
-UNLIKE = ((2, 0), (3, 0), (4, 1), (6, 5), (12, 7))
 
 
 def missed_look(clocks):
@@ -263,9 +260,8 @@ class CoverPaper(unittest.TestCase):
             self.check(tuple(sorted(set(clocks + HALVES))))
 
     def test_a_long_chain(self):
-        halved = tuple((2 * step, step - 1) for step in (1, 2, 4, 8, 16, 32, 64, 128, 256)) + ((512, 511),)
-        self.check(halved)
-        self.assertRaises(TooGreat, cover_paper, halved + ((1000, 0),))
+        self.check(HALVED)
+        self.assertRaises(TooGreat, cover_paper, HALVED + ((1000, 0),))
 
 
 class FirstWithin(unittest.TestCase):

@@ -3,6 +3,10 @@ import unittest
 from coverclocks import errors
 from coverclocks.clocks import clocks_of
 from coverclocks.covering import covers
+from coverclocks.far import missed_ahead, next_missed, nth_missed, rung_below
+from coverclocks.least import idle_of, least_good, lone_at
+from coverclocks.splits import join_at, split_at
+from coverclocks.wanted import cases_good, rests_for, rests_many, steps_share
 
 PLAIN = (errors.NoClock, errors.NoNumber, errors.NoPlace, errors.NoRow)
 ALL = PLAIN + (errors.NoClocks, errors.NoText, errors.TooGreat)
@@ -35,6 +39,30 @@ class Errors(unittest.TestCase):
         with self.assertRaises(errors.TooGreat) as caught:
             covers(((101, 0), (103, 0)))
         self.assertEqual([kind for kind in ALL if isinstance(caught.exception, kind)], [errors.TooGreat])
+
+    def refused(self, kind, ask, *handed):
+        with self.assertRaises(errors.ClockError) as caught:
+            ask(*handed)
+        self.assertEqual([known for known in ALL if isinstance(caught.exception, known)], [kind])
+        return vars(caught.exception)
+
+    def test_each_is_of_its_own_class_with_its_fields(self):
+        great = ((101, 0), (103, 0))
+        for ask, handed in [(lone_at, (great, 2)), (split_at, (great, None, 2)), (join_at, (great, (0, 1)))]:
+            self.assertEqual(self.refused(errors.NoPlace, ask, *handed), {})
+        for ask, handed in [(rests_for, ([],)), (rests_many, ([1],)), (steps_share, ((2,),)), (cases_good, (None, 0)),
+                            (nth_missed, (((1, 0),), 0)), (missed_ahead, (((2, 0),), 2))]:
+            self.assertEqual(self.refused(errors.NoNumber, ask, *handed), {})
+        eleven = tuple((11, rest) for rest in range(11))
+        for ask, handed, many, most in [
+            (idle_of, (great,), 10403, 10000), (lone_at, (great, 1), 10403, 10000),
+            (least_good, (great, None), 10403, 10000), (split_at, (great, 0, 12), 13, 12),
+            (split_at, (great, 0, 11), 1111, 1000), (rests_for, ([23, 19, 24],), 10488, 10000),
+            (rests_many, ([15, 15, 15],), 3375, 3000), (rung_below, (eleven, 5), 11, 10),
+            (next_missed, (eleven, 0), 11, 10), (nth_missed, (eleven, 0), 11, 10),
+            (missed_ahead, (eleven, None), 11, 10),
+        ]:
+            self.assertEqual(self.refused(errors.TooGreat, ask, *handed), {"many": many, "most": most})
 
 
 if __name__ == "__main__":

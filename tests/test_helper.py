@@ -1,7 +1,12 @@
 import math
 import unittest
 
-from coverclocks.helper import common_divisor, common_multiple, inverse_of, least_factor, lowest_terms
+from coverclocks.errors import TooGreat
+from coverclocks.helper import (
+    common_divisor, common_multiple, doubled, first_counted, inverse_of, least_factor, lowest_terms, refuse_above,
+    rising_places_good, split_form_good,
+)
+from tests.helper import LONG, refusal
 
 
 class Helper(unittest.TestCase):
@@ -25,6 +30,31 @@ class Helper(unittest.TestCase):
             for number in range(1, 2 * bound):
                 if math.gcd(number, bound) == 1:
                     self.assertEqual(number * inverse_of(number, bound) % bound, 1)
+
+    def test_doubled(self):
+        self.assertEqual([doubled(times) for times in range(6)], [1, 2, 4, 8, 16, 32])
+
+    def test_refuse_above(self):
+        self.assertIsNone(refusal(refuse_above, 12, 12))
+        self.assertEqual(refusal(refuse_above, 13, 12), (TooGreat, {"many": 13, "most": 12}))
+
+    def test_rising_places_good(self):
+        for thing in ((), (0,), (2,), (0, 2), (0, 1, 2)):
+            self.assertIs(rising_places_good("abc", thing), True)
+        for thing in ((0, 0), (1, 0), (3,), (-1, 0), (0, True), (False,), (None,), (LONG,), [0, 1], {0: 1}, "01", 0):
+            self.assertIs(rising_places_good("abc", thing), False)
+
+    def test_split_form_good(self):
+        self.assertIs(split_form_good(2, (None, None)), True)
+        for k, papers in ((1, (None,)), (0, ()), (True, (None,)), (2, (None,)), (2, [None, None]), (LONG, ())):
+            self.assertIs(split_form_good(k, papers), False)
+
+    def test_first_counted(self):
+        counts = [1, 2, 0, 1, 2, 0]
+        self.assertEqual(first_counted((1, 0), counts, 2), 1)
+        self.assertEqual(first_counted((2, 0), counts, 2), 4)
+        self.assertEqual(first_counted((2, 1), counts, 0), 5)
+        self.assertIsNone(first_counted((3, 0), counts, 0))
 
 
 if __name__ == "__main__":

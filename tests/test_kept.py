@@ -4,7 +4,7 @@ import copy
 import unittest
 
 from coverclocks import clocks as clocks_file
-from coverclocks import covering, tallies
+from coverclocks import covering, far, least, splits, tallies, wanted
 from coverclocks.errors import ClockError
 from tests.helper import FAR, GREAT, some_clocks
 
@@ -12,11 +12,24 @@ CLOCKS = some_clocks(21, 12, 12, 5, 2000) + [(), ((1, 0),), ((2, 0), (2, 1)), GR
 OF_CLOCKS = (
     clocks_file.clocks_good, clocks_file.round_of, clocks_file.met_all, covering.covers, covering.first_missed,
     covering.missed_of, covering.cover_paper, tallies.tally_of, tallies.shares_of, tallies.clash_of,
-    tallies.exact_good, tallies.evenly_of, tallies.uneven_of,
+    tallies.exact_good, tallies.evenly_of, tallies.uneven_of, least.idle_of, least.needs_paper, least.least_covers,
+    least.fewest_cover, splits.joins_of, splits.split_paper,
 )
-OF_NUMBER = (clocks_file.rings_at, tallies.times_at)
-OF_THING = (covering.miss_good, covering.cover_paper_good, tallies.clash_good, tallies.uneven_good)
-THINGS = ([], [0, 1, 0], {"leaf": [0]}, ("split", 2, [("leaf", 0), ["leaf", 1]]), ([0], {1: [2]}), ["split", 2, []])
+OF_NUMBER = (
+    clocks_file.rings_at, tallies.times_at, far.rung_below, far.nth_missed, far.missed_ahead, far.next_missed,
+    far.last_missed,
+)
+OF_THING = (
+    covering.miss_good, covering.cover_paper_good, tallies.clash_good, tallies.uneven_good, least.lone_at,
+    least.needs_good, least.least_good, splits.join_at, splits.split_good, far.missed_ahead,
+)
+STEPS = ([2], [2, 2], [4, 2, 4], [6, 4, 3, 2, 12], [2, 3, 7], [23, 19, 24], [], [2, None], [[2], 3], {2: [3]}, [1, 2])
+OF_STEPS = (wanted.rests_for, wanted.rests_many, wanted.steps_share, wanted.cases_for)
+OF_STEPS_AND_THING = (wanted.rests_good, wanted.cases_good)
+THINGS = (
+    0, 1, (0, 1), (2, [None, None]), [2, (None, None)], (0, [(1, ())]), [0, ()], (0, ([1, ()],)),
+    [], [0, 1, 0], {"leaf": [0]}, ("split", 2, [("leaf", 0), ["leaf", 1]]), ([0], {1: [2]}), ["split", 2, []],
+)
 
 
 def told(ask, handed):
@@ -31,17 +44,26 @@ def questions():
         for ask in OF_CLOCKS:
             yield ask, (clocks,)
         for ask in OF_NUMBER:
-            for number in (0, -5, FAR):
+            for number in (0, 5, FAR):
                 yield ask, (clocks, number)
         for ask in OF_THING:
             for thing in THINGS:
                 yield ask, (clocks, copy.deepcopy(thing))
+        for place in (0, 1, 12, [0]):
+            yield splits.split_at, (clocks, place, 2)
+        yield clocks_file.rings_at, (clocks, -5)
         yield covering.first_within, (clocks, (3, 1))
         yield clocks_file.clocks_of, (list(reversed(clocks)),)
         yield clocks_file.clocks_of, (list(clocks) + [[2, 0], {}],)
     for thing in THINGS:
         yield clocks_file.clock_good, (copy.deepcopy(thing),)
         yield clocks_file.clocks_good, (copy.deepcopy(thing),)
+    for steps in STEPS:
+        for ask in OF_STEPS:
+            yield ask, (copy.deepcopy(steps),)
+        for ask in OF_STEPS_AND_THING:
+            for thing in THINGS:
+                yield ask, (copy.deepcopy(steps), copy.deepcopy(thing))
 
 
 class Kept(unittest.TestCase):

@@ -8,16 +8,12 @@ from coverclocks.tallies import (
     clash_good, clash_of, evenly_of, exact_good, shares_of, tally_of, times_at, uneven_good, uneven_of,
 )
 from tests.helper import (
-    ABOVE, FAR, GREAT, HALVES, JUST, LONG, PRIMES, count, is_whole, round_great, rung, small_clocks, some_clocks,
-    whatever,
+    ABOVE, FAR, GREAT, HALVED, HALVES, JUST, LONG, PRIMES, count, counts_look, is_whole, round_great, rung,
+    small_clocks, some_clocks, whatever,
 )
 
 # The even ones by 5 and the last of these by 7, the odd ones whole.
 EXACT = tuple(sorted([(2, 1)] + [(10, 2 * turn) for turn in range(4)] + [(70, 8 + 10 * turn) for turn in range(7)]))
-
-
-def counts_look(clocks):
-    return [count(clocks, number) for number in range(round_great(clocks))]
 
 
 def clash_look(clocks):
@@ -178,10 +174,9 @@ class Exact(unittest.TestCase):
 
     def test_more_exact_ones(self):
         self.assertIs(exact_good(EXACT), True)
-        halved = tuple((2 * step, step - 1) for step in (1, 2, 4, 8, 16, 32, 64, 128, 256)) + ((512, 511),)
-        self.assertIs(exact_good(halved), True)
-        self.assertIs(exact_good(halved[:-1]), False)
-        self.assertIs(exact_good(halved[:-1] + ((512, 510),)), False)
+        self.assertIs(exact_good(HALVED), True)
+        self.assertIs(exact_good(HALVED[:-1]), False)
+        self.assertIs(exact_good(HALVED[:-1] + ((512, 510),)), False)
 
     def test_great_rounds(self):
         self.assertIs(exact_good(GREAT), False)
