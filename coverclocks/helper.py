@@ -1,6 +1,6 @@
 """What several modules of the package need."""
 
-from coverclocks.errors import TooGreat
+from coverclocks.errors import NoPlace, TooGreat
 
 MOST_NUMBERS = 10000
 
@@ -14,6 +14,11 @@ def place_good(things, thing):
     return whole_good(thing) and 0 <= thing < len(things)
 
 
+def refuse_no_place(things, thing):
+    if not place_good(things, thing):
+        raise NoPlace()
+
+
 def rising_places_good(things, thing):
     if not isinstance(thing, tuple) or not all([place_good(things, place) for place in thing]):
         return False
@@ -23,6 +28,10 @@ def rising_places_good(things, thing):
 def split_form_good(k, papers):
     # The length is asked here, ahead of any parts, for k may have a hundred figures.
     return whole_good(k) and k >= 2 and isinstance(papers, tuple) and len(papers) == k
+
+
+def rising_once(things):
+    return tuple(sorted(set(things)))
 
 
 def refuse_above(many, most):

@@ -2,9 +2,8 @@
 
 from coverclocks.clocks import rings_at, round_of
 from coverclocks.covering import covers
-from coverclocks.errors import NoPlace
 from coverclocks.helper import MOST_NUMBERS, counts_within, doubled, first_counted
-from coverclocks.helper import place_good, refuse_above, rising_places_good, whole_good
+from coverclocks.helper import refuse_above, refuse_no_place, rising_places_good, whole_good
 
 
 def idle_of(clocks):
@@ -12,8 +11,7 @@ def idle_of(clocks):
 
 
 def lone_at(clocks, place):
-    if not place_good(clocks, place):
-        raise NoPlace()
+    refuse_no_place(clocks, place)
     return lone_numbers(clocks)[place]
 
 

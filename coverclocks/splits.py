@@ -2,19 +2,19 @@
 
 from coverclocks.clocks import MOST_CLOCKS, MOST_STEP, inside_of, parts_of
 from coverclocks.errors import NoPlace
-from coverclocks.helper import common_divisor, place_good, refuse_above, rising_places_good, split_form_good
+from coverclocks.helper import common_divisor, refuse_above, refuse_no_place
+from coverclocks.helper import rising_once, rising_places_good, split_form_good
 
 
 def split_at(clocks, place, k):
-    if not place_good(clocks, place):
-        raise NoPlace()
+    refuse_no_place(clocks, place)
     clock = clocks[place]
     others = clocks[:place] + clocks[place + 1:]
     step = clock[0] * k
     twice = [other for other in others if other[0] == step and inside_of(other, clock)]
     refuse_above(len(others) + k - len(twice), MOST_CLOCKS)
     refuse_above(step, MOST_STEP)
-    return tuple(sorted(set(others + tuple(parts_of(clock, k)))))
+    return rising_once(others + tuple(parts_of(clock, k)))
 
 
 def joins_of(clocks):
@@ -45,7 +45,7 @@ def join_at(clocks, places):
         raise NoPlace()
     whole = whole_from(clocks[places[0]], len(places))
     others = [clock for place, clock in enumerate(clocks) if place not in places]
-    return tuple(sorted(set(others + [whole])))
+    return rising_once(others + [whole])
 
 
 def split_good(clocks, thing):

@@ -95,6 +95,88 @@ def parts_look(clock, k):
     return [(step, rest) for rest in range(step) if rung(clock, rest)]
 
 
+def mirror_look(clocks):
+    """Of each step the rests at which the clock rings taken below 0."""
+    found = []
+    for clock in clocks:
+        found.extend((clock[0], rest) for rest in range(clock[0]) if rung(clock, -rest))
+    return tuple(sorted(found))
+
+
+def moved_look(clocks, number):
+    """Of each step the rests ahead of which, by so much, the clock rings."""
+    found = []
+    for clock in clocks:
+        found.extend((clock[0], rest) for rest in range(clock[0]) if rung(clock, rest - number))
+    return tuple(sorted(found))
+
+
+def whole_look(clocks, places):
+    """The clock that these are just all parts of, by trying each one that it could be."""
+    chosen = sorted(clocks[place] for place in places)
+    if len(chosen) < 2:
+        return None
+    for step in range(1, chosen[0][0]):
+        if step * len(chosen) == chosen[0][0]:
+            for rest in range(step):
+                if sorted(parts_look((step, rest), len(chosen))) == chosen:
+                    return (step, rest)
+    return None
+
+
+def made_look(paper, clock=(1, 0)):
+    if paper is None:
+        return [clock]
+    made = []
+    for turn, part in enumerate(paper[1]):
+        made.extend(made_look(part, (clock[0] * paper[0], clock[1] + clock[0] * turn)))
+    return made
+
+
+def clash_look(clocks):
+    for place in range(len(clocks)):
+        for other in range(place + 1, len(clocks)):
+            for number in range(clocks[place][0] * clocks[other][0]):
+                if rung(clocks[place], number) and rung(clocks[other], number):
+                    return (place, other, number)
+    return None
+
+
+def lone_look(clocks, place):
+    """The least number at which the clock rings and no other one, by a look through the round."""
+    for number in range(round_great(clocks)):
+        if rung(clocks[place], number) and count(clocks, number) == 1:
+            return number
+    return None
+
+
+def lones_look(clocks):
+    return [lone_look(clocks, place) for place in range(len(clocks))]
+
+
+def places_rung(clocks):
+    """The unlike sets of places that ring at a number of the round."""
+    found = set()
+    for number in range(round_great(clocks)):
+        found.add(frozenset(place for place, clock in enumerate(clocks) if rung(clock, number)))
+    return found
+
+
+def is_least(rung_sets, places):
+    """Whether each number is rung by one of these, and each of these rings alone among them somewhere."""
+    chosen = set(places)
+    met = [chosen & rung_set for rung_set in rung_sets]
+    return all(met) and all({place} in met for place in places)
+
+
+def least_look(clocks):
+    rung_sets = places_rung(clocks)
+    found = []
+    for many in range(len(clocks) + 1):
+        found.extend(itertools.combinations(range(len(clocks)), many))
+    return sorted(places for places in found if is_least(rung_sets, places))
+
+
 def split_drawn(source, most_many, most_step, ks=(2, 2, 3, 4, 5)):
     """Exact clocks, drawn by splits from (1, 0) on."""
     clocks = [(1, 0)]

@@ -6,7 +6,7 @@ from coverclocks.clocks import met_all
 from coverclocks.errors import NoNumber, TooGreat
 from coverclocks.far import last_missed, missed_ahead, next_missed, nth_missed, rung_below
 from tests.helper import (
-    BOX, FAR, GREAT, HALVED, HALVES, LONG, PRIMES, TWELFTHS, UNLIKE, all_clocks, count, counts_look, is_whole, refusal,
+    BOX, FAR, GREAT, HALVED, HALVES, PRIMES, TWELFTHS, UNLIKE, all_clocks, count, counts_look, is_whole, refusal,
     round_great, small_clocks, some_clocks, whatever,
 )
 

@@ -1,10 +1,10 @@
 import math
 import unittest
 
-from coverclocks.errors import TooGreat
+from coverclocks.errors import NoPlace, TooGreat
 from coverclocks.helper import (
     common_divisor, common_multiple, doubled, first_counted, inverse_of, least_factor, lowest_terms, refuse_above,
-    rising_places_good, split_form_good,
+    refuse_no_place, rising_once, rising_places_good, split_form_good,
 )
 from tests.helper import LONG, refusal
 
@@ -37,6 +37,16 @@ class Helper(unittest.TestCase):
     def test_refuse_above(self):
         self.assertIsNone(refusal(refuse_above, 12, 12))
         self.assertEqual(refusal(refuse_above, 13, 12), (TooGreat, {"many": 13, "most": 12}))
+
+    def test_refuse_no_place(self):
+        for place in (0, 1, 2):
+            self.assertIsNone(refusal(refuse_no_place, "abc", place))
+        for thing in (3, -1, LONG, None, True, False, "0", [0], (0,), {}):
+            self.assertEqual(refusal(refuse_no_place, "abc", thing), (NoPlace, {}))
+
+    def test_rising_once(self):
+        self.assertEqual(rising_once([]), ())
+        self.assertEqual(rising_once([(3, 1), (2, 0), (3, 0), (2, 0)]), ((2, 0), (3, 0), (3, 1)))
 
     def test_rising_places_good(self):
         for thing in ((), (0,), (2,), (0, 2), (0, 1, 2)):

@@ -4,20 +4,21 @@ import copy
 import unittest
 
 from coverclocks import clocks as clocks_file
-from coverclocks import covering, far, least, splits, tallies, wanted
+from coverclocks import changed, covering, exact, far, least, splits, tallies, texts, wanted
+from coverclocks.desk import Desk
 from coverclocks.errors import ClockError
-from tests.helper import FAR, GREAT, some_clocks
+from tests.helper import BOX, FAR, GREAT, HALVED, HALVES, TWELFTHS, some_clocks
 
 CLOCKS = some_clocks(21, 12, 12, 5, 2000) + [(), ((1, 0),), ((2, 0), (2, 1)), GREAT]
 OF_CLOCKS = (
     clocks_file.clocks_good, clocks_file.round_of, clocks_file.met_all, covering.covers, covering.first_missed,
     covering.missed_of, covering.cover_paper, tallies.tally_of, tallies.shares_of, tallies.clash_of,
     tallies.exact_good, tallies.evenly_of, tallies.uneven_of, least.idle_of, least.needs_paper, least.least_covers,
-    least.fewest_cover, splits.joins_of, splits.split_paper,
+    least.fewest_cover, splits.joins_of, splits.split_paper, changed.mirrored_of, texts.clocks_shown,
 )
 OF_NUMBER = (
     clocks_file.rings_at, tallies.times_at, far.rung_below, far.nth_missed, far.missed_ahead, far.next_missed,
-    far.last_missed,
+    far.last_missed, exact.moved_to,
 )
 OF_THING = (
     covering.miss_good, covering.cover_paper_good, tallies.clash_good, tallies.uneven_good, least.lone_at,
@@ -26,6 +27,11 @@ OF_THING = (
 STEPS = ([2], [2, 2], [4, 2, 4], [6, 4, 3, 2, 12], [2, 3, 7], [23, 19, 24], [], [2, None], [[2], 3], {2: [3]}, [1, 2])
 OF_STEPS = (wanted.rests_for, wanted.rests_many, wanted.steps_share, wanted.cases_for)
 OF_STEPS_AND_THING = (wanted.rests_good, wanted.cases_good)
+OF_N = (exact.exact_of, exact.exact_many, exact.exact_steps, exact.moved_kinds)
+ROWS = (
+    "clocks", "covers", "tally", "put 5 1", "put 2 2", "put 2 0", "split 0 2", "split 0 1", "join 0 1", "join 0 5",
+    "mirror", "move -3", "back", "fresh", "drop 7 7", "shown", "nothing", "", None, ["clocks"], {"clocks": []},
+)
 THINGS = (
     0, 1, (0, 1), (2, [None, None]), [2, (None, None)], (0, [(1, ())]), [0, ()], (0, ([1, ()],)),
     [], [0, 1, 0], {"leaf": [0]}, ("split", 2, [("leaf", 0), ["leaf", 1]]), ([0], {1: [2]}), ["split", 2, []],
@@ -37,6 +43,14 @@ def told(ask, handed):
         return ask(*handed)
     except ClockError as refusal:
         return (ask.__name__, refusal.__class__.__name__, vars(refusal))
+
+
+def say_to(clocks, row):
+    """What a desk with these clocks answers, and what it keeps then."""
+    desk = Desk()
+    for step, rest in clocks:
+        desk.say(f"put {step} {rest}")
+    return (told(desk.say, (row,)), desk.say("clocks"))
 
 
 def questions():
@@ -55,6 +69,24 @@ def questions():
         yield covering.first_within, (clocks, (3, 1))
         yield clocks_file.clocks_of, (list(reversed(clocks)),)
         yield clocks_file.clocks_of, (list(clocks) + [[2, 0], {}],)
+        for other in (HALVES, TWELFTHS, (), clocks):
+            yield changed.put_together, (clocks, other)
+            for place in (0, 2, [0], None):
+                yield changed.put_in, (clocks, copy.deepcopy(place), other)
+        for clock in ((1, 0), (3, 1), (1000, 7)):
+            yield changed.stretched_by, (clocks, clock)
+            yield changed.seen_in, (clocks, clock)
+        yield texts.clocks_read, (texts.clocks_shown(clocks),)
+        for row in ROWS:
+            yield say_to, (clocks, copy.deepcopy(row))
+    for n in range(1, 13):
+        for ask in OF_N:
+            yield ask, (n,)
+    for clocks in (HALVES, TWELFTHS, HALVED, BOX):
+        yield exact.first_moved, (clocks,)
+        yield exact.exact_with, (tuple(clock[0] for clock in clocks),)
+    for thing in THINGS + ("clocks 1\nclock 2", "clocks 1\nclock 2 0\n"):
+        yield texts.clocks_read, (copy.deepcopy(thing),)
     for thing in THINGS:
         yield clocks_file.clock_good, (copy.deepcopy(thing),)
         yield clocks_file.clocks_good, (copy.deepcopy(thing),)

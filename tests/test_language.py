@@ -97,6 +97,28 @@ class Language(unittest.TestCase):
                 if isinstance(node, (ast.FunctionDef, ast.ClassDef)):
                     self.assertEqual(node.decorator_list, [], where)
 
+    def test_tops(self):
+        for name, text, tree in self.files():
+            names = list(imported_names(tree))
+            for node in tree.body[1:]:
+                where = f"{name}:{node.lineno}"
+                self.assertIsInstance(node, (ast.ImportFrom, ast.FunctionDef, ast.ClassDef, ast.Assign), where)
+                if isinstance(node, ast.Assign):
+                    self.plain_value(node.value, names, where)
+                    names.append(node.targets[0].id)
+                elif not isinstance(node, ast.ImportFrom):
+                    names.append(node.name)
+            self.assertEqual(len(names), len(set(names)), name)
+
+    def plain_value(self, value, names, where):
+        """A whole number, a text, or a tuple, list or dict of such and of functions from above; no list within one."""
+        for node in ast.walk(value):
+            if isinstance(node, ast.Name):
+                self.assertIn(node.id, names, where)
+            elif not isinstance(node, ast.Load):
+                self.assertIsInstance(node, (ast.Constant, ast.Tuple, ast.List, ast.Dict), where)
+                self.assertTrue(node is value or not isinstance(node, (ast.List, ast.Dict)), where)
+
     def test_expressions(self):
         own = [method for name, text, tree in self.files() for method in own_methods(tree)]
         for name, text, tree in self.files():
@@ -115,6 +137,9 @@ class Language(unittest.TestCase):
                             self.assertIn(getattr(other, "value", 0), (None, True, False), where)
                 if isinstance(node, ast.Call) and isinstance(node.func, ast.Attribute):
                     self.assertIn(node.func.attr, METHODS + own, where)
+                if isinstance(node, ast.Call) and isinstance(node.func, ast.Name) and node.func.id == "set":
+                    made = ast.unparse(node)
+                    self.assertTrue(f"len({made})" in text or f"sorted({made})" in text, where)
 
     def test_imports(self):
         for name, text, tree in self.files():

@@ -8,47 +8,13 @@ from coverclocks.least import (
     fewest_cover, idle_of, least_covers, least_good, lone_at, needs_good, needs_paper,
 )
 from tests.helper import (
-    ABOVE, BOX, FAR, GREAT, HALVED, HALVES, JUST, LONG, TWELFTHS, UNLIKE, all_clocks, count, exact_look, is_place,
-    is_whole, refusal, round_great, rung, small_clocks, some_clocks, split_drawn, whatever,
+    ABOVE, BOX, FAR, GREAT, HALVED, HALVES, JUST, LONG, TWELFTHS, UNLIKE, all_clocks, count, exact_look, is_least,
+    is_place, is_whole, least_look, lones_look, places_rung, refusal, round_great, rung, small_clocks, some_clocks,
+    split_drawn, whatever,
 )
 
 # Fifteen exact clocks, one place each: more than the document's twelve.
 FIFTEEN = tuple((15, rest) for rest in range(15))
-
-
-def lone_look(clocks, place):
-    """The least number at which the clock rings and no other one, by a look through the round."""
-    for number in range(round_great(clocks)):
-        if rung(clocks[place], number) and count(clocks, number) == 1:
-            return number
-    return None
-
-
-def lones_look(clocks):
-    return [lone_look(clocks, place) for place in range(len(clocks))]
-
-
-def places_rung(clocks):
-    """The unlike sets of places that ring at a number of the round."""
-    found = set()
-    for number in range(round_great(clocks)):
-        found.add(frozenset(place for place, clock in enumerate(clocks) if rung(clock, number)))
-    return found
-
-
-def is_least(rung_sets, places):
-    """Whether each number is rung by one of these, and each of these rings alone among them somewhere."""
-    chosen = set(places)
-    met = [chosen & rung_set for rung_set in rung_sets]
-    return all(met) and all({place} in met for place in places)
-
-
-def least_look(clocks):
-    rung_sets = places_rung(clocks)
-    found = []
-    for many in range(len(clocks) + 1):
-        found.extend(itertools.combinations(range(len(clocks)), many))
-    return sorted(places for places in found if is_least(rung_sets, places))
 
 
 def least_good_look(clocks, thing):

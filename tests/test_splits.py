@@ -8,7 +8,7 @@ from coverclocks.errors import NoPlace, TooGreat
 from coverclocks.splits import join_at, joins_of, split_at, split_good, split_paper
 from tests.helper import (
     BOX, GREAT, HALVED, HALVES, LONG, TWELFTHS, UNLIKE, all_clocks, count, deep, exact_look, is_place, is_whole,
-    parts_look, refusal, round_great, small_clocks, some_clocks, split_drawn, whatever,
+    made_look, parts_look, refusal, round_great, small_clocks, some_clocks, split_drawn, whatever, whole_look,
 )
 
 NO_PLACE = (NoPlace, {})
@@ -28,18 +28,6 @@ def split_look(clocks, place, k):
     return tuple(sorted(found))
 
 
-def whole_look(clocks, places):
-    """The clock that these are just all parts of, by trying each one that it could be."""
-    chosen = sorted(clocks[place] for place in places)
-    if len(chosen) < 2:
-        return None
-    for step in range(1, chosen[0][0]):
-        for rest in range(step):
-            if sorted(parts_look((step, rest), len(chosen))) == chosen:
-                return (step, rest)
-    return None
-
-
 def joins_look(clocks):
     found = []
     for many in range(2, len(clocks) + 1):
@@ -55,15 +43,6 @@ def is_paper(thing):
     if type(thing) is not tuple or len(thing) != 2 or not is_whole(thing[0]) or type(thing[1]) is not tuple:
         return False
     return thing[0] >= 2 and len(thing[1]) == thing[0] and all(is_paper(paper) for paper in thing[1])
-
-
-def made_look(paper, clock=(1, 0)):
-    if paper is None:
-        return [clock]
-    made = []
-    for turn, part in enumerate(paper[1]):
-        made.extend(made_look(part, (clock[0] * paper[0], clock[1] + clock[0] * turn)))
-    return made
 
 
 def good_look(clocks, thing):

@@ -8,21 +8,12 @@ from coverclocks.tallies import (
     clash_good, clash_of, evenly_of, exact_good, shares_of, tally_of, times_at, uneven_good, uneven_of,
 )
 from tests.helper import (
-    ABOVE, FAR, GREAT, HALVED, HALVES, JUST, LONG, PRIMES, count, counts_look, is_whole, round_great, rung,
+    ABOVE, FAR, GREAT, HALVED, HALVES, JUST, LONG, PRIMES, clash_look, count, counts_look, is_whole, round_great, rung,
     small_clocks, some_clocks, whatever,
 )
 
 # The even ones by 5 and the last of these by 7, the odd ones whole.
 EXACT = tuple(sorted([(2, 1)] + [(10, 2 * turn) for turn in range(4)] + [(70, 8 + 10 * turn) for turn in range(7)]))
-
-
-def clash_look(clocks):
-    for place in range(len(clocks)):
-        for other in range(place + 1, len(clocks)):
-            for number in range(clocks[place][0] * clocks[other][0]):
-                if rung(clocks[place], number) and rung(clocks[other], number):
-                    return (place, other, number)
-    return None
 
 
 def clash_good_look(clocks, thing):
